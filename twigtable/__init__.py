@@ -1,0 +1,1 @@
+"""Twigtable: tables with keys, kept in many makes."""
