@@ -169,6 +169,17 @@ class Language(unittest.TestCase):
                 else:
                     self.assertFalse(hasattr(builtins, name))
 
+    def test_no_local_is_called_like_a_class_or_an_import(self):
+        for path, text in self.files.items():
+            rows = ast.parse(text).body
+            taken = {row.name for row in rows if isinstance(row, ast.ClassDef)}
+            taken |= {one.asname or one.name for row in rows if isinstance(row, ast.ImportFrom) for one in row.names}
+            for node in ast.walk(ast.parse(text)):
+                stored = isinstance(node, ast.Name) and isinstance(node.ctx, ast.Store)
+                if stored or isinstance(node, ast.arg):
+                    with self.subTest(f"{path.name}:{node.lineno}"):
+                        self.assertNotIn(node.id if stored else node.arg, taken)
+
     def test_methods(self):
         for place, node in self.nodes(ast.Attribute):
             with self.subTest(place, name=node.attr):
