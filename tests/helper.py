@@ -72,6 +72,25 @@ def rows_by(keys):
     return [(key, CELLS[at % len(CELLS)]) for at, key in enumerate(sorted(keys, key=order))]
 
 
+def shuffled(things, step):
+    """All of the things in another order, always the same one: step has no factor in common with their count."""
+    return [things[at * step % len(things)] for at in range(len(things))]
+
+
+class Dice:
+    """Numbers that look like chance and are the same each time."""
+
+    def __init__(self, seed):
+        self.state = seed * 7919 + 1
+
+    def below(self, count):
+        self.state = (self.state * 6364136223846793005 + 1442695040888963407) % 2**64
+        return (self.state >> 33) % count
+
+    def one_of(self, things):
+        return things[self.below(len(things))]
+
+
 def many_keys(count):
     """So many keys: all of the mixed ones, and numbers and texts by turns beside them."""
     keys = list(MIXED)
@@ -99,6 +118,53 @@ TABLES = {
 for at in range(1, 7):
     # Of one level alone, and a row of level 0 ahead of the others.
     TABLES[f"level {at} behind 0"] = rows_by([LEAST] + NUMBERS[at] + TEXTS[at])
+
+
+# Thirty columns, rising: of one letter, of twelve, and such as begin another one.
+WORDS = sorted([chr(97 + at) for at in range(26)] + ["aa", "ab", "a" * 12, "z" * 12])
+CLASHES = [(None, (1, 2)), (5, (None, "a")), ("", (LEAST, GREATEST, "", GREATEST_TEXT)), (0, tuple(range(60)))]
+PLAIN = [None, 0, 1, -1, LEAST, GREATEST, "", " ", "x y", "~", GREATEST_TEXT, "0"]
+# What is no plain value, no key and no word.
+NEVER = [
+    True, False, 1.0, BOUND, -BOUND, "~" * 41, "per%cent", "a\nb", "\x7f", "\u00e9", b"a", [], {}, ["a"], ("a",), object(),
+]
+
+
+def rows_of_columns(columns, keys, values):
+    """A row for each of the keys; the cells are of the values by turns, and those of every fifth row are all empty."""
+    rows = []
+    for at, key in enumerate(sorted(keys, key=order)):
+        cells = {column: values[(at * 3 + place * 5) % len(values)] for place, column in enumerate(columns)}
+        rows.append((key, () if at % 5 == 4 else plain_cells(cells)))
+    return rows
+
+
+def plain_cells(values):
+    """The cells of [35] of a dict from columns to values."""
+    return tuple((column, values[column]) for column in sorted(values) if values[column] is not None)
+
+
+def plain_row(columns, cells):
+    """The dict of [38]: each of the columns, rising, with its value or None."""
+    return {column: dict(cells).get(column) for column in sorted(columns)}
+
+
+# Tables as pairs of columns and rows.
+SHEETS = {
+    "nothing": ([], []),
+    "no column, one row": ([], [(7, ())]),
+    "no column, many rows": ([], [(key, ()) for key in MIXED]),
+    "one column, no row": (["a"], []),
+    "one column, one row": (["a"], [(7, (("a", "x"),))]),
+    "one column, one empty row": (["a"], [("k", ())]),
+    "one column": (["zzzzzzzzzzzz"], rows_of_columns(["zzzzzzzzzzzz"], MIXED, PLAIN + CLASHES)),
+    "30 columns, no row": (WORDS, []),
+    "30 columns, one row": (WORDS, rows_of_columns(WORDS, [LEAST], [3, "x", None])),
+    "30 columns, empty rows": (WORDS, [(key, ()) for key in MIXED]),
+    "clashes alone": (["a", "b"], rows_of_columns(["a", "b"], MIXED, CLASHES)),
+    "300 rows": (["a", "c", "m"], rows_of_columns(["a", "c", "m"], MANY, PLAIN + CLASHES)),
+    "30 columns, 300 rows": (WORDS, rows_of_columns(WORDS, MANY, PLAIN + CLASHES)),
+}
 
 
 def plain_cut(entries, at_level):

@@ -21,6 +21,7 @@ from helper import (
     order,
     plain_tree,
     rows_by,
+    shuffled,
     unfolded,
 )
 
@@ -38,11 +39,6 @@ def rows_with(rows, key, cells):
 
 def rows_without(rows, key):
     return [row for row in rows if row[0] != key]
-
-
-def shuffled(things, step):
-    """All of the things in another order, always the same one: step has no factor in common with their count."""
-    return [things[at * step % len(things)] for at in range(len(things))]
 
 
 class Edits(QuickCase):

@@ -68,15 +68,19 @@ class Pages:
         self.count = number + 1
         return number
 
-    def page(self, number):
+    def told_at(self, number):
         if number not in self.told_by_number:
             raise NoPage(number)
-        told = self.told_by_number[number]
+        return self.told_by_number[number]
+
+    def page(self, number):
+        told = self.told_at(number)
         return page_of(told[0], told[1])
 
+    # A card is told without the page, for a root's card is asked for where the page is not looked at.
     def card(self, number):
-        page = self.page(number)
-        return (page.level, page.first())
+        told = self.told_at(number)
+        return (told[0], told[1][0][0])
 
     def numbers(self):
         return sorted(self.told_by_number)
@@ -88,6 +92,6 @@ class Pages:
         self.count = max(self.count, count)
 
     def drop(self, number):
-        told = self.page(number).told()
+        told = self.told_at(number)
         self.told_by_number.pop(number)
         self.number_by_told.pop(told)
